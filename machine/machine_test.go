@@ -142,8 +142,8 @@ func TestAdd(t *testing.T) {
 		if c.e == api.OK {
 			all = append(all, c.l...)
 		}
-		if !same(m.Funs(), all) {
-			t.Errorf("%s: %d functions, not %d", c.what, len(m.Funs()), len(all))
+		if !same(m.Funs(), all) || m.Count() != len(all) {
+			t.Errorf("%s: %d functions, not %d", c.what, m.Count(), len(all))
 		}
 	}
 	m = made(t, 100)
@@ -244,7 +244,7 @@ func TestCopy(t *testing.T) {
 // The rule on nil objects.
 func TestNil(t *testing.T) {
 	var m *machine.Machine
-	if m.Heap() != nil || m.Funs() != nil || m.Globals() != nil || m.Copy() != nil {
+	if m.Heap() != nil || m.Funs() != nil || m.Globals() != nil || m.Copy() != nil || m.Count() != 0 {
 		t.Error("a nil machine has something")
 	}
 	if m.Add(nil) != api.ErrNone || m.Add(make([]code.Fun, 5000)) != api.ErrNone || m.Bind(2) != api.ErrNone || m.Bind(num(1)) != api.ErrNone {
